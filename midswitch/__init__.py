@@ -1,0 +1,1 @@
+"""Midswitch: requests that read settings while these are switched."""
