@@ -1,7 +1,7 @@
 """Books: settings, the starts of requests, and the switches that are allowed."""
 
 from midswitch.errors import BadSettings, BadStarts, BadSwitches
-from midswitch.settings import is_standing, need_settings, need_standing, standings
+from midswitch.settings import grid_of, is_standing, need_settings, need_standing
 
 
 class Book:
@@ -9,7 +9,7 @@ class Book:
 
     def __init__(self, settings, *, starts=None, switches=None):
         self.settings = need_settings(settings)
-        self.grid = tuple(standings(settings))
+        self.grid = tuple(grid_of(settings))
         if starts is None:
             starts = self.grid
         if switches is None:

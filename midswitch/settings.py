@@ -35,7 +35,7 @@ def need_settings(thing):
     for at, setting in enumerate(thing):
         if not is_setting(setting) or setting[0] in names_of(thing[:at]):
             raise BadSettings(at)
-    if len(list(standings(thing))) > MOST_STANDINGS:
+    if len(grid_of(thing)) > MOST_STANDINGS:
         raise BadSettings("many")
     return thing
 
@@ -45,12 +45,18 @@ def names_of(settings):
     return [name for name, most in settings]
 
 
-def standings(settings):
-    """All standings, ascending."""
+def grid_of(settings):
+    """A list of all standings, ascending."""
+    # Operators come to this when they make a Book or a Request, and those do without a generator.
     rows = [()]
     for name, most in settings:
         rows = [(*row, value) for row in rows for value in range(most + 1)]
-    yield from rows
+    return rows
+
+
+def standings(settings):
+    """All standings, ascending."""
+    yield from grid_of(settings)
 
 
 def is_standing(settings, thing):

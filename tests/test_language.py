@@ -18,6 +18,7 @@ exit gc getattr globals hasattr help id license locals os quit setattr type vars
 OPERATORS = "add sub mul floordiv mod and or xor lshift rshift".split()
 DUNDERS = """init eq repr str len enter exit call iter lt le gt ge ne pow ipow neg pos invert abs bool contains
 getitem setitem""".split() + [sign + name for name in OPERATORS for sign in ("", "r", "i")]
+UNCHANGING = [name for name in DUNDERS if name not in ("init", "enter", "exit", "call", "iter")]
 REFUSED = (ast.Global, ast.AsyncFunctionDef, ast.AsyncFor, ast.AsyncWith, ast.Await, ast.Div)
 LISTS = ("any", "all", "sum", "min", "max", "sorted")
 
@@ -36,6 +37,35 @@ def functions():
     for where, node in nodes():
         if isinstance(node, ast.FunctionDef):
             yield where, node
+
+
+def called_names(function):
+    """The names of what a function calls, or reads off an object (a method, or a property)."""
+    names = set()
+    for node in ast.walk(function):
+        if isinstance(node, ast.Call) and isinstance(node.func, ast.Name):
+            names.add(node.func.id)
+        if isinstance(node, ast.Attribute):
+            names.add(node.attr)
+    return names
+
+
+def reached_by_operators():
+    """All functions to which an operator comes by calls at any depth; what has the same name counts, too."""
+    bodies = {}
+    for where, node in nodes():
+        if isinstance(node, ast.FunctionDef):
+            bodies.setdefault(node.name, []).append((where, node))
+        if isinstance(node, ast.ClassDef):
+            makers = [row for row in node.body if isinstance(row, ast.FunctionDef) and row.name == "__init__"]
+            bodies.setdefault(node.name, []).extend([(where, maker) for maker in makers])
+    waiting = [name for name in bodies if name[2:-2] in UNCHANGING]
+    seen = set(waiting)
+    while waiting:
+        for where, function in bodies.get(waiting.pop(), []):
+            yield where, function
+            waiting += [name for name in called_names(function) if name in bodies and name not in seen]
+            seen.update(waiting)
 
 
 def bound_names(node):
@@ -115,6 +145,14 @@ class LanguageTest(unittest.TestCase):
         for where, node in nodes():
             if isinstance(node, ast.Call) and isinstance(node.func, ast.Name) and node.func.id in LISTS:
                 self.assertNotIsInstance(node.args[0], ast.GeneratorExp, where)
+
+    def test_operators_reach_no_generator(self):
+        reached = list(reached_by_operators())
+        for name in ("__and__", "__add__", "__contains__", "__eq__", "__init__", "need_settings", "is_name", "joined"):
+            self.assertIn(name, [function.name for where, function in reached])
+        for where, function in reached:
+            for node in ast.walk(function):
+                self.assertNotIsInstance(node, (ast.Yield, ast.YieldFrom), f"{where} {function.name}")
 
     def test_decorators_and_parameters(self):
         for where, node in functions():
