@@ -160,6 +160,41 @@ class LanguageTest(unittest.TestCase):
             for decorator in node.decorator_list:
                 self.assertRegex(ast.unparse(decorator), r"^(property|staticmethod|classmethod|\w+\.setter)$", where)
 
+    def test_no_name_is_that_of_a_class_or_an_import_of_its_file(self):
+        for path, text in sources():
+            tree = ast.parse(text)
+            outer = [alias.asname or alias.name for node in tree.body if isinstance(node, ast.ImportFrom)
+                     for alias in node.names] + [node.name for node in tree.body if isinstance(node, ast.ClassDef)]
+            for function in ast.walk(tree):
+                if isinstance(function, (ast.FunctionDef, ast.Lambda)):
+                    inner = [name for node in ast.walk(function) if node is not function for name in bound_names(node)]
+                    self.assertEqual([name for name in inner if name in outer], [], path)
+
+    def test_imports_name_the_file_that_defines_the_name_and_are_used(self):
+        for path, text in sources():
+            for node in ast.parse(text).body:
+                for alias in node.names if isinstance(node, ast.ImportFrom) else []:
+                    there = (PACKAGE / (node.module.partition(".")[2] + ".py")).read_text(encoding="utf-8")
+                    self.assertRegex(there, rf"(?m)^(def {alias.name}\(|class {alias.name}\b|{alias.name} = )", path)
+                    self.assertGreater(len(re.findall(rf"\b{alias.name}\b", text)), 1, (path, alias.name))
+
+    def test_generators_and_their_kin_are_iterated_at_once(self):
+        lazy = [node.name for where, node in functions()
+                if any(isinstance(part, (ast.Yield, ast.YieldFrom)) for part in ast.walk(node))]
+        self.assertEqual(lazy, ["standings"])
+        for where, node in nodes():
+            value = getattr(node, "value", None) if isinstance(node, (ast.Assign, ast.Return)) else None
+            if isinstance(value, ast.Call):
+                name = ast.unparse(value.func).rpartition(".")[2]
+                self.assertNotIn(name, lazy + ["zip", "enumerate", "reversed", "range", "items", "keys", "values"], where)
+
+    def test_no_name_is_a_method_and_an_attribute(self):
+        methods = {node.name for where, owner in nodes() if isinstance(owner, ast.ClassDef)
+                   for node in owner.body if isinstance(node, ast.FunctionDef)}
+        stored = {node.attr for where, node in nodes()
+                  if isinstance(node, ast.Attribute) and isinstance(node.ctx, ast.Store)}
+        self.assertEqual(methods & stored, set())
+
     def test_module_level(self):
         allowed = (ast.ImportFrom, ast.FunctionDef, ast.ClassDef, ast.Assign)
         for path, text in sources():
@@ -185,11 +220,11 @@ class ReadmeTest(unittest.TestCase):
         exec(code, names)
         checked = 0
         for line in code.split("\n"):
-            call, mark, told = line.partition("  # (")
-            if mark and " = " not in call:
-                self.assertEqual(eval(call, names), ast.literal_eval("(" + told), line)
+            call, mark, told = line.partition("  # ")
+            if mark and " = " not in call and not told.startswith('("torn", a run'):
+                self.assertEqual(eval(call, names), ast.literal_eval(told.partition(":")[0]), line)
                 checked += 1
-        self.assertEqual(checked, 4)
+        self.assertEqual(checked, 9)
 
 
 if __name__ == "__main__":

@@ -6,7 +6,7 @@ import unittest
 from midswitch.books import Book
 from midswitch.errors import BadModes, BadPlaces, BadSettings, BadStanding, Missing, TooMany
 from midswitch.requests import MODES, MOST_PLACES, Request
-from samples import GRID, OTHER_PAIR, PAIR, PLACES, any_kind, without_tuples
+from samples import GRID, OTHER_PAIR, PAIR, PLACES, Checks, any_kind, without_tuples
 
 LIVE = ("live", "live")
 SELF = (("self", 1), ("modes", 1), ("cls", 1))
@@ -19,15 +19,6 @@ def fields(request):
 def chain(many):
     """The places of a request with this many places: deeds one behind the other, and an end."""
     return tuple([("do", "a", at + 1) for at in range(many - 1)] + [("end",)])
-
-
-class Checks(unittest.TestCase):
-
-    def refused(self, error, field, value, function, *args, **more):
-        with self.assertRaises(error) as caught:
-            function(*args, **more)
-        self.assertEqual(getattr(caught.exception, field), value, (args, more))
-        self.assertNotIsInstance(getattr(caught.exception, field), bool)
 
 
 class MakingTest(Checks):
