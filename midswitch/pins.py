@@ -1,7 +1,8 @@
 """Which settings a request must keep so that it is never torn, points [13] and [24]."""
 
+from midswitch.charts import Chart, ways_to_codes
 from midswitch.requests import MODES
-from midswitch.verdicts import verdict
+from midswitch.tables import MOST_NODES
 
 
 def fewest_kept(book, request):
@@ -11,8 +12,15 @@ def fewest_kept(book, request):
 
 def all_kept(book, request):
     """A list of all modes with which the request is not torn, by the order of MODES, the first setting first."""
-    return [modes for modes in all_modes(request.settings)
-            if verdict(book, request.with_modes(modes))[0] == "whole"]
+    # The modes matter to the moves alone, so one chart does for all of them.
+    chart = Chart(book, request)
+    return [modes for modes in all_modes(request.settings) if not is_torn_with(chart, modes)]
+
+
+def is_torn_with(chart, modes):
+    """Whether the request of the chart is torn with these modes."""
+    ways, torn = ways_to_codes(chart, modes, MOST_NODES)
+    return len(torn) > 0
 
 
 def kept_many(modes):

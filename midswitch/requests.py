@@ -1,7 +1,7 @@
 """Requests: places with deeds, asks and ends, and a mode for each setting."""
 
 from midswitch.errors import BadModes, BadPlaces, BadSettings, Missing, TooMany
-from midswitch.settings import is_int, is_name, names_of, need_settings, need_standing
+from midswitch.settings import is_int, is_name, names_of, need_settings, need_standing, order_of
 
 MODES = ("live", "met", "begin")
 MOST_PLACES = 16
@@ -67,25 +67,24 @@ class Request:
     def plain(self, standing):
         """The row under this standing if it does not change, or None if it goes on for ever."""
         need_standing(self.settings, standing)
-        row = []
-        number = 0
-        # A way that comes to more places than there are has been at one of them twice, and never ends.
-        for step in range(len(self.places)):
-            place = self.places[number]
-            if place == END:
-                return tuple(row)
-            if place[0] == "do":
-                row.append(place[1])
-            number = number_behind(self.settings, place, standing)
-        return None
+        return plain_row(self.places, order_of(self.settings), standing)
 
 
-def number_behind(settings, place, standing):
-    """The number of the place behind a deed or an ask, by this standing."""
-    if place[0] == "do":
-        return place[2]
-    value = standing[names_of(settings).index(place[1])]
-    return place[2][value]
+def plain_row(places, order, standing):
+    """The row of these places under a standing that does not change, or None if it goes on for ever."""
+    row = []
+    number = 0
+    # A way that comes to more places than there are has been at one of them twice, and never ends.
+    for step in range(len(places)):
+        place = places[number]
+        if place == END:
+            return tuple(row)
+        if place[0] == "do":
+            row.append(place[1])
+            number = place[2]
+        else:
+            number = place[2][standing[order[place[1]]]]
+    return None
 
 
 def need_places(settings, places):

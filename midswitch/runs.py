@@ -12,24 +12,27 @@ def row_of(book, request, run):
 
 def is_right(book, request, run):
     """Whether any value is a right run."""
-    try:
-        followed(book, request, run)
-    except BadRun:
-        return False
-    return True
+    return followed_if_right(book, request, run) is not None
 
 
 def is_whole(book, request, run):
     """Whether any value is a right and whole run."""
-    return is_right(book, request, run) and place_of(book, request, run) is None
+    told = followed_if_right(book, request, run)
+    return told is not None and told[0] is None
 
 
 def is_torn(book, request, run):
     """Whether any value is a right, whole and torn run."""
-    if not is_whole(book, request, run):
+    told = followed_if_right(book, request, run)
+    if told is None:
         return False
-    row = row_of(book, request, run)
-    return row not in [request.plain(standing) for standing in lived(book, request, run)]
+    number, row, been = told
+    return number is None and is_torn_row(request, row, been)
+
+
+def is_torn_row(request, row, been):
+    """Whether a request that ended with this row was torn, having lived through these standings."""
+    return row not in [request.plain(standing) for standing in been]
 
 
 def lived(book, request, run):
@@ -42,6 +45,14 @@ def place_of(book, request, run):
     """The number of the place at which a right run stands, or None behind an end."""
     number, row, been = followed(book, request, run)
     return number
+
+
+def followed_if_right(book, request, run):
+    """As followed tells of a right run, and None of any other value."""
+    try:
+        return followed(book, request, run)
+    except BadRun:
+        return None
 
 
 def followed(book, request, run):

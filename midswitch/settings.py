@@ -45,6 +45,11 @@ def names_of(settings):
     return [name for name, most in settings]
 
 
+def order_of(settings):
+    """A dict with the number of each setting, by its name."""
+    return {name: at for at, (name, most) in enumerate(settings)}
+
+
 def grid_of(settings):
     """A list of all standings, ascending."""
     # Operators come to this when they make a Book or a Request, and those do without a generator.
@@ -63,7 +68,10 @@ def is_standing(settings, thing):
     """Whether any value is a standing of the settings."""
     if not isinstance(thing, tuple) or len(thing) != len(settings):
         return False
-    return all([is_int(value) and 0 <= value <= most for value, (name, most) in zip(thing, settings)])
+    for value, (name, most) in zip(thing, settings):
+        if not is_int(value) or not 0 <= value <= most:
+            return False
+    return True
 
 
 def need_standing(settings, thing):

@@ -1,109 +1,92 @@
 """Nodes of a request, the table of all of them, and the crossed places, points [17] to [20]."""
 
-from midswitch.books import Book
+from midswitch.charts import (ENDED, Chart, code_of, first_code, first_spot, goer, match_parts, nodes_of, spot_parts,
+                              ways_to_codes)
 from midswitch.errors import BadNode
 from midswitch.requests import END, is_number
-from midswitch.search import nearest_first
-from midswitch.settings import grid_of, is_int
-from midswitch.situations import first_situations, situation_moves
-from midswitch.steps import GO, UNREAD
+from midswitch.settings import is_int
+from midswitch.steps import UNREAD
 
 MOST_NODES = 600
 
 
 def start_nodes(book, request):
     """The nodes of all starts, ascending."""
-    return tuple(first_nodes(book, request, plain_rows(request)))
+    chart = Chart(book, request)
+    return nodes_of(chart, [first_code(chart, request.modes, start) for start in book.starts])
 
 
 def need_node(book, request, thing):
     """The thing itself, if it is a node."""
-    word = wrong_part(book, request, plain_rows(request), thing)
-    if word is not None:
-        raise BadNode(word)
+    need_charted(Chart(book, request), book, request, thing)
     return thing
 
 
 def behind(book, request, node):
     """The nodes behind all moves from this one, ascending."""
-    need_node(book, request, node)
-    return tuple(sorted([after for move, after in node_moves(book, request, plain_rows(request), node)]))
+    chart = Chart(book, request)
+    need_charted(chart, book, request, node)
+    codes = codes_behind(chart, goer(chart, request.modes), code_of(chart, node))
+    return tuple(sorted([spot_parts(chart, code) + match_parts(chart, code) for code in codes]))
 
 
 def is_torn_node(book, request, node):
     """Whether a node is torn."""
-    need_node(book, request, node)
-    return is_torn_there(request, plain_rows(request), node)
+    chart = Chart(book, request)
+    need_charted(chart, book, request, node)
+    return is_torn_code(chart, request, code_of(chart, node))
 
 
 def table(book, request):
     """All nodes to which one comes from the starts, ascending."""
-    return tuple(sorted(list(ways_to_nodes(book, request))))
+    chart = Chart(book, request)
+    ways, torn = ways_to_codes(chart, request.modes, MOST_NODES)
+    return nodes_of(chart, list(ways))
 
 
 def crossed(book, request):
     """The places to which one comes by switches alone, ascending."""
-    still = Book(book.settings, starts=book.starts, switches=())
-    reached = [node[0] for node in table(book, request)]
-    without = [node[0] for node in table(still, request)]
-    return tuple(sorted(set(reached) - set(without)))
+    chart = Chart(book, request)
+    ways, torn = ways_to_codes(chart, request.modes, MOST_NODES)
+    reached = [code >> chart.place_at for code in ways]
+    return tuple(sorted(set(reached) - set(places_without_switches(chart, request.modes))))
 
 
-def plain_rows(request):
-    """A dict with the plain row of each standing that has one, ascending."""
-    rows = {standing: request.plain(standing) for standing in grid_of(request.settings)}
-    return {standing: rows[standing] for standing in rows if rows[standing] is not None}
+def places_without_switches(chart, modes):
+    """A list of the places to which one comes from the starts without a switch."""
+    gone = goer(chart, modes)
+    spots = [first_spot(chart, modes, start) for start in chart.starts]
+    return [code >> chart.place_at for spot in spots for code in codes_from(gone, spot)]
 
 
-def ways_to_nodes(book, request):
-    """How one first comes to each node of the table, the nearest nodes first."""
-    rows = plain_rows(request)
-    firsts = first_nodes(book, request, rows)
-    return nearest_first(firsts, lambda node: node_moves(book, request, rows, node), MOST_NODES)
+def codes_from(gone, code):
+    """A list of the codes to which one comes from this one by going on alone."""
+    codes = {}
+    while code != ENDED and code not in codes:
+        codes[code] = True
+        code = gone(code)
+    return list(codes)
 
 
-def first_nodes(book, request, rows):
-    """A list of the nodes of all starts, ascending."""
-    nodes = []
-    for situation in first_situations(book, request):
-        match = tuple([(standing, int(standing == situation[1])) for standing in rows])
-        nodes.append((*situation, 0, match))
-    return nodes
+def codes_behind(chart, gone, code):
+    """A list of the codes behind all moves from this one."""
+    after = gone(code)
+    return chart.turned(code) if after == ENDED else [*chart.turned(code), after]
 
 
-def node_moves(book, request, rows, node):
-    """Pairs of a move and the node behind it, for each move from this node that leads to one."""
-    place, standing, kept, many, match = node
-    moves = []
-    for move, situation, deed in situation_moves(book, request, (place, standing, kept)):
-        done, left = many, match
-        if move != GO:
-            left = marked(match, situation[1])
-        elif deed is not None:
-            done, left = matched(rows, many, match, deed)
-        moves.append((move, (*situation, done, left)))
-    return moves
+def is_torn_code(chart, request, code):
+    """Whether a code is that of a torn node."""
+    return request.places[code >> chart.place_at] == END and chart.is_torn_at_end(code)
 
 
-def marked(match, second):
-    """The match with 1 for this standing, if it stands there."""
-    return tuple([(standing, 1 if standing == second else mark) for standing, mark in match])
+def need_charted(chart, book, request, thing):
+    """BadNode for any value that is no node."""
+    word = wrong_part(chart, book, request, thing)
+    if word is not None:
+        raise BadNode(word)
 
 
-def matched(rows, many, match, deed):
-    """How many deeds there are behind this one, and what is left of the match."""
-    left = tuple([(standing, mark) for standing, mark in match if rows[standing][many:many + 1] == (deed,)])
-    return (many + 1 if left else 0), left
-
-
-def is_torn_there(request, rows, node):
-    """Whether a node is torn, by the plain rows."""
-    place, standing, kept, many, match = node
-    fitting = [mark for other, mark in match if len(rows[other]) == many]
-    return request.places[place] == END and 1 not in fitting
-
-
-def wrong_part(book, request, rows, thing):
+def wrong_part(chart, book, request, thing):
     """A word for the first part of any value that is not that of a node, or None if it is a node."""
     if not isinstance(thing, tuple) or len(thing) != 5:
         return "form"
@@ -116,7 +99,7 @@ def wrong_part(book, request, rows, thing):
         return "kept"
     if not is_int(many) or many < 0:
         return "many"
-    if not is_match(book, rows, many, match):
+    if not is_match(chart, book, many, match):
         return "match"
     return None
 
@@ -138,21 +121,24 @@ def is_kept_value(mode, most, thing):
     return mode != "live" and 0 <= thing <= most
 
 
-def is_match(book, rows, many, thing):
+def is_match(chart, book, many, thing):
     """Whether any value is a match of this many deeds."""
     if not isinstance(thing, tuple) or (thing == () and many != 0):
         return False
-    if not all([is_mark(book, rows, many, pair) for pair in thing]):
-        return False
-    order = [standing for standing, mark in thing]
-    return order == sorted(set(order))
+    last = -1
+    for pair in thing:
+        if not is_mark(chart, book, many, pair) or chart.numbers[pair[0]] <= last:
+            return False
+        last = chart.numbers[pair[0]]
+    return True
 
 
-def is_mark(book, rows, many, thing):
+def is_mark(chart, book, many, thing):
     """Whether any value is a pair of a standing whose plain row has at least this many deeds, and 0 or 1."""
     if not isinstance(thing, tuple) or len(thing) != 2:
         return False
     standing, mark = thing
     if standing not in book or not is_int(mark) or mark not in (0, 1):
         return False
-    return standing in rows and len(rows[standing]) >= many
+    row = chart.rows[chart.numbers[standing]]
+    return row is not None and len(row) >= many

@@ -1,31 +1,30 @@
 """Certificates, point [21], and shortest runs to a row or to a place."""
 
+from midswitch.charts import Chart, code_of, first_code, goer, nodes_of, way_to, ways_to_codes
 from midswitch.errors import BadNumber, BadPaper
-from midswitch.requests import END, is_number
+from midswitch.requests import is_number
 from midswitch.runs import is_torn
-from midswitch.search import nearest_first, way_to
 from midswitch.settings import is_name
-from midswitch.situations import situation_map
+from midswitch.spots import Spots
 from midswitch.steps import GO
-from midswitch.tables import is_torn_there, node_moves, plain_rows, start_nodes, ways_to_nodes, wrong_part
+from midswitch.tables import MOST_NODES, codes_behind, is_torn_code, wrong_part
 
 
 def verdict(book, request):
     """A certificate: the table, or a torn run with the fewest moves."""
-    ways = ways_to_nodes(book, request)
-    rows = plain_rows(request)
-    for node in ways:
-        if is_torn_there(request, rows, node):
-            return ("torn", ended(run_by(ways, node)))
-    return ("whole", tuple(sorted(list(ways))))
+    chart = Chart(book, request)
+    ways, torn = ways_to_codes(chart, request.modes, MOST_NODES)
+    if not torn:
+        return ("whole", nodes_of(chart, list(ways)))
+    return ("torn", ended(run_by(chart, way_to(ways, torn[0]))))
 
 
 def check(book, request, paper):
     """The word of a certificate, if it is right."""
-    if not is_paper(book, request, paper):
+    if not is_paper(paper):
         raise BadPaper("form")
     word, told = paper
-    right = is_torn(book, request, told) if word == "torn" else is_closed(book, request, told)
+    right = is_torn(book, request, told) if word == "torn" else is_whole_table(book, request, told)
     if not right:
         raise BadPaper(word)
     return word
@@ -36,33 +35,30 @@ def run_to(book, request, row):
     if not is_row(row):
         raise BadNumber(row)
     # Asked for its error alone: whether there are too many nodes does not hang on the row.
-    ways_to_nodes(book, request)
-    situations, arcs = situation_map(book, request)
-    firsts = [(at, 0) for at in range(len(book.starts))]
-    ways = nearest_first(firsts, lambda spot: spot_moves(arcs, row, spot))
-    for spot in ways:
-        at, done = spot
-        if done == len(row) and request.places[situations[at][0]] == END:
-            first, moves = way_to(ways, spot)
-            return ended((situations[first[0]][1], moves))
-    return None
+    ways_to_codes(Chart(book, request), request.modes, MOST_NODES)
+    spots = Spots(book, request)
+    way = way_with_row(spots, row)
+    return None if way is None else ended(run_by(spots.chart, [spots.codes[number] for number in way]))
 
 
 def run_to_place(book, request, place):
     """A right run that stands at this place, with the fewest moves, or None."""
     if not is_number(len(request), place):
         raise BadNumber(place)
-    ways = ways_to_nodes(book, request)
-    for node in ways:
-        if node[0] == place:
-            return run_by(ways, node)
+    chart = Chart(book, request)
+    ways, torn = ways_to_codes(chart, request.modes, MOST_NODES)
+    for code in ways:
+        if code >> chart.place_at == place:
+            return run_by(chart, way_to(ways, code))
     return None
 
 
-def run_by(ways, node):
-    """The run by which one first came to this node."""
-    first, moves = way_to(ways, node)
-    return (first[1], moves)
+def run_by(chart, codes):
+    """The run that comes to these codes, one behind the other."""
+    numbers = [chart.standing_of(code) for code in codes]
+    # A switch leads to another standing, and a go never does.
+    moves = [GO if one == other else ("to", chart.grid[other]) for one, other in zip(numbers, numbers[1:])]
+    return (chart.grid[numbers[0]], tuple(moves))
 
 
 def ended(run):
@@ -71,16 +67,34 @@ def ended(run):
     return (start, moves + (GO,))
 
 
-def spot_moves(arcs, row, spot):
-    """Pairs of a move and the spot behind it: the number of a situation, and how many deeds of the row are done."""
-    at, done = spot
-    moves = []
-    for move, after, deed in arcs[at]:
-        if deed is None:
-            moves.append((move, (after, done)))
-        elif row[done:done + 1] == (deed,):
-            moves.append((move, (after, done + 1)))
-    return moves
+def way_with_row(spots, row):
+    """The numbers of the situations on a shortest way to an end with this row, or None."""
+    many = len(spots.codes)
+    # A mark is a situation and how many deeds of the row are done, in one integer.
+    level = list(range(spots.first_many))
+    ways = {mark: None for mark in level}
+    while level:
+        following = []
+        for mark in level:
+            done, number = divmod(mark, many)
+            if done == len(row) and spots.ends >> number & 1:
+                return [other % many for other in way_to(ways, mark)]
+            for after in marks_behind(spots, row, done, number):
+                if after not in ways:
+                    ways[after] = mark
+                    following.append(after)
+        level = following
+    return None
+
+
+def marks_behind(spots, row, done, number):
+    """A list of the marks behind all moves that keep to the row."""
+    many = len(spots.codes)
+    marks = [done * many + other for other in spots.silent[number]]
+    deed = spots.deeds[number]
+    if deed is not None and done < len(row) and row[done] == deed[0]:
+        marks.append((done + 1) * many + deed[1])
+    return marks
 
 
 def is_row(thing):
@@ -88,32 +102,37 @@ def is_row(thing):
     return isinstance(thing, tuple) and all([is_name(name) for name in thing])
 
 
-def is_paper(book, request, thing):
-    """Whether any value has the form of a certificate."""
+def is_paper(thing):
+    """Whether any value is a word of a certificate with a tuple, or with any value, as the word asks for."""
     if not isinstance(thing, tuple) or len(thing) != 2:
         return False
     word, told = thing
-    if word == "torn":
-        return True
-    if word != "whole" or not isinstance(told, tuple):
-        return False
-    rows = plain_rows(request)
-    return all([wrong_part(book, request, rows, node) is None for node in told])
+    return word == "torn" or (word == "whole" and isinstance(told, tuple))
 
 
-def is_closed(book, request, nodes):
+def is_whole_table(book, request, things):
+    """Whether these nodes certify that the request is not torn; BadPaper if one of them is no node."""
+    chart = Chart(book, request)
+    for thing in things:
+        if wrong_part(chart, book, request, thing) is not None:
+            raise BadPaper("form")
+    return is_closed(chart, request, things)
+
+
+def is_closed(chart, request, nodes):
     """Whether these nodes ascend, have those of all starts and all behind each, and none is torn."""
-    known = set(nodes)
-    if list(nodes) != sorted(known):
+    if not all([node < following for node, following in zip(nodes, nodes[1:])]):
         return False
-    for node in start_nodes(book, request):
-        if node not in known:
+    codes = [code_of(chart, node) for node in nodes]
+    known = set(codes)
+    for start in chart.starts:
+        if first_code(chart, request.modes, start) not in known:
             return False
-    rows = plain_rows(request)
-    for node in nodes:
-        if is_torn_there(request, rows, node):
+    gone = goer(chart, request.modes)
+    for code in codes:
+        if is_torn_code(chart, request, code):
             return False
-        for move, after in node_moves(book, request, rows, node):
+        for after in codes_behind(chart, gone, code):
             if after not in known:
                 return False
     return True

@@ -1,0 +1,90 @@
+"""All situations of a request in a book: where it can stand, and what it can still do from there.
+
+A situation is a place, a standing, and what is kept. Here it is told by a number; a set of situations is an integer
+with a bit for each number.
+"""
+
+from midswitch.charts import Chart, first_spot, goer
+
+
+class Spots:
+    """The situations to which right runs come, those of the starts first, and the moves between them."""
+
+    def __init__(self, book, request):
+        self.chart = Chart(book, request)
+        self.codes = [first_spot(self.chart, request.modes, start) for start in book.starts]
+        self.at_code = {code: at for at, code in enumerate(self.codes)}
+        self.first_many = len(self.codes)
+        self.silent, self.deeds, self.ends = [], [], 0
+        gone = goer(self.chart, request.modes)
+        while len(self.silent) < len(self.codes):
+            code = self.codes[len(self.silent)]
+            self.look_from(request.places[code >> self.chart.place_at], gone, code)
+        self.deeds_by_name = by_name(self.deeds)
+        self.quiet = {}
+
+    def look_from(self, place, gone, code):
+        """Notes the moves from a situation: those without a deed, and the name of the deed and what is behind it."""
+        silent = [self.number_of(other) for other in self.chart.turned(code)]
+        deed = None
+        if place[0] == "do":
+            deed = (place[1], self.number_of(gone(code)))
+        elif place[0] == "ask":
+            silent.append(self.number_of(gone(code)))
+        else:
+            self.ends |= 1 << len(self.silent)
+        self.silent.append(silent)
+        self.deeds.append(deed)
+
+    def number_of(self, code):
+        """The number of the situation with this code, the next one if it is new."""
+        if code not in self.at_code:
+            self.at_code[code] = len(self.codes)
+            self.codes.append(code)
+        return self.at_code[code]
+
+    def widened(self, number):
+        """The set of all to which one comes from this one with no deed."""
+        if number not in self.quiet:
+            self.quiet[number] = flooded(self.silent, self.quiet, number)
+        return self.quiet[number]
+
+    def behind_starts(self):
+        """The set of all to which one comes from the starts with no deed."""
+        found = 0
+        for number in range(self.first_many):
+            found |= self.widened(number)
+        return found
+
+    def behind_deed(self, here, name):
+        """The set of all to which one comes from this set by a deed with this name, and then with no deed."""
+        found = 0
+        for bit, number in self.deeds_by_name.get(name, ()):
+            if here & bit:
+                found |= self.widened(number)
+        return found
+
+
+def by_name(deeds):
+    """For each name of a deed: pairs of the bit of a situation that does it and the number of the one behind it."""
+    pairs = {}
+    for at, deed in enumerate(deeds):
+        if deed is not None:
+            name, number = deed
+            pairs.setdefault(name, []).append((1 << at, number))
+    return pairs
+
+
+def flooded(silent, quiet, number):
+    """The set of all to which one comes from this one by silent moves; quiet has such sets that are known."""
+    found = 0
+    waiting = [number]
+    while waiting:
+        at = waiting.pop()
+        if found >> at & 1 == 0:
+            if at in quiet:
+                found |= quiet[at]
+            else:
+                found |= 1 << at
+                waiting += silent[at]
+    return found
