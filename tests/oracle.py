@@ -170,3 +170,119 @@ def random_cases(many, seed):
     for case in range(many):
         settings = rng.choice(((("a", 1),), (("a", 2),), (("a", 1), ("b", 1))))
         yield random_book(rng, settings), random_request(rng, settings, rng.randint(3, 9))
+
+
+def is_torn_in(book, request, window):
+    """Whether some run of the request that lives in the window is torn, points [16] and [22]."""
+    waiting = [(at, State(book, request, standing)) for at, standing in enumerate(window)]
+    seen = set()
+    for at, state in waiting:
+        if state.is_torn():
+            return True
+        if (at, state.key()) not in seen and state.place is not None:
+            seen.add((at, state.key()))
+            waiting.append((at, state.moved(("go",))))
+            if at + 1 < len(window):
+                waiting.append((at + 1, state.moved(("to", window[at + 1]))))
+    return False
+
+
+def is_safe(book, requests, window):
+    return not any(is_torn_in(book, request, window) for request in requests)
+
+
+def least_costs(book, requests, first, last, most):
+    """The least pair of waits and switches of a safe plan with at most so many switches, or None."""
+    known = {}
+
+    def safe(window):
+        if window not in known:
+            known[window] = is_safe(book, requests, window)
+        return known[window]
+
+    level, waits = {((first,), 0)}, 0
+    while waits <= most + 1:
+        within = set(level)
+        growing = list(within)
+        for window, switches in growing:
+            for second in book.after(window[-1]):
+                longer = (window + (second,), switches + 1)
+                if switches < most and longer not in within and safe(longer[0]):
+                    within.add(longer)
+                    growing.append(longer)
+        done = [switches for window, switches in within if window[-1] == last]
+        if done:
+            return (waits, min(done))
+        least = {}
+        for window, switches in within:
+            least[window[-1]] = min(switches, least.get(window[-1], switches))
+        level, waits = {((standing,), switches) for standing, switches in least.items()}, waits + 1
+    return None
+
+
+def situations_behind(book, request, states, name=None):
+    """All situations, a State for each, behind these by a deed with this name (None: by no deed) and silent moves."""
+    if name is not None:
+        deeds = [state for state in states if request.places[state.place][:2] == ("do", name)]
+        states = [state.moved(("go",)) for state in deeds]
+    found = {}
+    waiting = list(states)
+    for state in waiting:
+        key = (state.place, state.standing, tuple(sorted(state.read.items())))
+        if state.place is not None and key not in found:
+            found[key] = state
+            moves = state.moves() if request.places[state.place][0] != "do" else state.moves()[1:]
+            waiting += [after for after in [state.moved(move) for move in moves] if after is not None]
+    return found
+
+
+def row_pairs(book, one, other):
+    """A dict: for each pair of sets of situations the first row that leads to it, and whether each of the two can end."""
+    names = sorted({place[1] for place in one.places + other.places if place[0] == "do"})
+    firsts = [situations_behind(book, request, [State(book, request, start) for start in book.starts])
+              for request in (one, other)]
+    pairs = {}
+    waiting = [((), firsts)]
+    for row, sets in waiting:
+        key = tuple([frozenset(found) for found in sets])
+        if any(key) and key not in pairs:
+            ends = [any(request.places[place] == ("end",) for place, standing, read in found)
+                    for request, found in zip((one, other), sets)]
+            pairs[key] = (row, ends)
+            for name in names:
+                waiting.append((row + (name,), [situations_behind(book, request, list(found.values()), name)
+                                                for request, found in zip((one, other), sets)]))
+    return pairs
+
+
+def first_unlike(pairs):
+    unlike = [(len(row), row, 0 if ends[0] else 1) for row, ends in pairs.values() if ends[0] != ends[1]]
+    return (min(unlike)[2], min(unlike)[1]) if unlike else None
+
+
+def asking_request(rng, settings, many, modes=None):
+    """Asks one behind the other, each with a deed of its own for each value: it is easily torn."""
+    places = []
+    for at in range(many):
+        name, most = rng.choice(settings)
+        first = len(places) + 1
+        behind = first + most + 1
+        places.append(("ask", name, tuple([first + value for value in range(most + 1)])))
+        places += [("do", "uvwxyz"[2 * at % 6 + value % 2], behind) for value in range(most + 1)]
+    places.append(("end",))
+    return Request(settings, tuple(places), modes or tuple([rng.choice(MODES + ("live",)) for setting in settings]))
+
+
+def asking_cases(many, seed, settings=(("a", 1), ("b", 1))):
+    """Triples of a random source, a book, and one to three such requests."""
+    rng = random.Random(seed)
+    for case in range(many):
+        book = random_book(rng, settings) if rng.random() < 0.4 else Book(settings)
+        yield rng, book, tuple([asking_request(rng, settings, rng.randint(1, 3)) for at in range(rng.randint(1, 3))])
+
+
+def random_window(rng, book, more):
+    window = [rng.choice(list(standings(book.settings)))]
+    while rng.random() < more and book.after(window[-1]):
+        window.append(rng.choice(book.after(window[-1])))
+    return tuple(window)

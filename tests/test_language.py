@@ -51,7 +51,7 @@ def called_names(function):
 
 
 def reached_by_operators():
-    """All functions to which an operator comes by calls at any depth; what has the same name counts, too."""
+    """All functions to which an operator or a property comes by calls at any depth; what has the same name counts, too."""
     bodies = {}
     for where, node in nodes():
         if isinstance(node, ast.FunctionDef):
@@ -60,6 +60,8 @@ def reached_by_operators():
             makers = [row for row in node.body if isinstance(row, ast.FunctionDef) and row.name == "__init__"]
             bodies.setdefault(node.name, []).extend([(where, maker) for maker in makers])
     waiting = [name for name in bodies if name[2:-2] in UNCHANGING]
+    waiting += [node.name for where, node in nodes() if isinstance(node, ast.FunctionDef)
+                and "property" in [ast.unparse(decorator) for decorator in node.decorator_list]]
     seen = set(waiting)
     while waiting:
         for where, function in bodies.get(waiting.pop(), []):
@@ -154,6 +156,25 @@ class LanguageTest(unittest.TestCase):
             for node in ast.walk(function):
                 self.assertNotIsInstance(node, (ast.Yield, ast.YieldFrom), f"{where} {function.name}")
 
+    def test_operators_and_properties_change_nothing(self):
+        reached = list(reached_by_operators())
+        for name in ("going", "ended", "all_of", "lived_through"):
+            self.assertIn(name, [function.name for where, function in reached])
+        for where, function in reached:
+            for node in ast.walk(function):
+                self.assertNotIsInstance(node, (ast.Delete, ast.Nonlocal), f"{where} {function.name}")
+                if isinstance(node, (ast.Attribute, ast.Subscript)) and function.name != "__init__":
+                    self.assertIsInstance(node.ctx, ast.Load, f"{where} {function.name}")
+
+    def test_with_statements_and_exits(self):
+        for where, node in functions():
+            if node.name == "__exit__":
+                self.assertEqual([argument.arg for argument in node.args.args], ["self", "kind", "value", "trace"])
+                for row in node.body:
+                    self.assertRegex(ast.unparse(row), r"^self(\.\w+)+ = self(\.\w+)+$", where)
+            if node.name == "__len__":
+                self.assertRegex(ast.unparse(node.body[-1]), r"^return len\(.*\)$", where)
+
     def test_decorators_and_parameters(self):
         for where, node in functions():
             self.assertEqual(node.args.posonlyargs, [], where)
@@ -217,14 +238,18 @@ class ReadmeTest(unittest.TestCase):
         text = (PACKAGE.parent / "README.md").read_text(encoding="utf-8")
         code = re.findall(r"```python\n(.*?)```", text, re.S)[0]
         names = {}
-        exec(code, names)
         checked = 0
-        for line in code.split("\n"):
-            call, mark, told = line.partition("  # ")
-            if mark and " = " not in call and not told.startswith('("torn", a run'):
-                self.assertEqual(eval(call, names), ast.literal_eval(told.partition(":")[0]), line)
-                checked += 1
-        self.assertEqual(checked, 9)
+        for node in ast.parse(code).body:
+            line = code.split("\n")[node.end_lineno - 1]
+            told = line.partition("  # ")[2]
+            if isinstance(node, ast.Expr):
+                found = eval(compile(ast.Expression(node.value), "README.md", "eval"), names)
+                if told and not told.startswith('("torn", a run'):
+                    self.assertEqual(found, ast.literal_eval(told.partition(":")[0]), line)
+                    checked += 1
+            else:
+                exec(compile(ast.Module([node], []), "README.md", "exec"), names)
+        self.assertEqual(checked, 21)
 
 
 if __name__ == "__main__":
