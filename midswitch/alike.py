@@ -52,8 +52,7 @@ def ends_by_row(book, one, other):
 def rows_to_pairs(mine, theirs):
     """A dict with the first row that leads to each pair of sets, in the order of the rows."""
     names = sorted(set(list(mine.deeds_by_name) + list(theirs.deeds_by_name)))
-    first = (mine.behind_starts(), theirs.behind_starts())
-    rows = {} if first == (0, 0) else {first: ()}
+    rows = {(mine.behind_starts(), theirs.behind_starts()): ()}
     level = list(rows)
     while level:
         following = []

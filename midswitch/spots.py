@@ -4,7 +4,7 @@ A situation is a place, a standing, and what is kept. Here it is told by a numbe
 with a bit for each number.
 """
 
-from midswitch.charts import Chart, first_spot, goer
+from midswitch.charts import ENDED, Chart, first_spot, goer
 
 
 class Spots:
@@ -13,35 +13,33 @@ class Spots:
     def __init__(self, book, request):
         self.chart = Chart(book, request)
         self.codes = [first_spot(self.chart, request.modes, start) for start in book.starts]
-        self.at_code = {code: at for at, code in enumerate(self.codes)}
         self.first_many = len(self.codes)
         self.silent, self.deeds, self.ends = [], [], 0
-        gone = goer(self.chart, request.modes)
-        while len(self.silent) < len(self.codes):
-            code = self.codes[len(self.silent)]
-            self.look_from(request.places[code >> self.chart.place_at], gone, code)
+        self.find_all(request)
         self.deeds_by_name = by_name(self.deeds)
         self.quiet = {}
 
-    def look_from(self, place, gone, code):
-        """Notes the moves from a situation: those without a deed, and the name of the deed and what is behind it."""
-        silent = [self.number_of(other) for other in self.chart.turned(code)]
-        deed = None
-        if place[0] == "do":
-            deed = (place[1], self.number_of(gone(code)))
-        elif place[0] == "ask":
-            silent.append(self.number_of(gone(code)))
-        else:
-            self.ends |= 1 << len(self.silent)
-        self.silent.append(silent)
-        self.deeds.append(deed)
-
-    def number_of(self, code):
-        """The number of the situation with this code, the next one if it is new."""
-        if code not in self.at_code:
-            self.at_code[code] = len(self.codes)
-            self.codes.append(code)
-        return self.at_code[code]
+    def find_all(self, request):
+        """Notes of each situation those behind its moves without a deed, and its deed: the name and the one behind."""
+        chart, codes = self.chart, self.codes
+        gone = goer(chart, request.modes)
+        numbers = {code: at for at, code in enumerate(codes)}
+        while len(self.silent) < len(codes):
+            code = codes[len(self.silent)]
+            afters = [code + way for way, bit in chart.turns[chart.standing_of(code)]]
+            after = gone(code)
+            if after == ENDED:
+                self.ends |= 1 << len(self.silent)
+            else:
+                afters.append(after)
+            for other in afters:
+                if other not in numbers:
+                    numbers[other] = len(codes)
+                    codes.append(other)
+            behind = [numbers[other] for other in afters]
+            place = request.places[code >> chart.place_at]
+            self.deeds.append((place[1], behind.pop()) if place[0] == "do" else None)
+            self.silent.append(behind)
 
     def widened(self, number):
         """The set of all to which one comes from this one with no deed."""

@@ -28,9 +28,9 @@ def read_book(text):
         # Lines of another kind stand ahead of this one or behind it: no setting behind a start, and the like.
         if words[0] == "setting" and starts == () and switches == ():
             settings = with_setting(settings, words)
-        elif words[0] == "start" and settings != () and switches == ():
+        elif words[0] == "start" and switches == ():
             starts = with_start(settings, starts, words)
-        elif words[0] == "switch" and settings != ():
+        elif words[0] == "switch":
             switches = with_switch(settings, switches, words)
         else:
             raise BadText(at)

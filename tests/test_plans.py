@@ -278,6 +278,31 @@ class LeastPlanTest(Checks):
         self.found((0, 2), detour, (other,), (0, 0), (1, 1))
         self.found((1, 2), detour, (other, BUY), (0, 0), (1, 1))
 
+    def test_more_switches_rather_than_a_wait(self):
+        settings = (("price", 1), ("tax", 2))
+        book = Book(settings, switches=(((0, 0), (0, 1)), ((0, 0), (1, 0)), ((0, 1), (0, 2)), ((0, 2), (1, 2)),
+                                        ((1, 0), (1, 2))))
+        request = Request(settings, PLACES[:3] + (("ask", "tax", (4, 4, 5)),) + PLACES[4:])
+        short = (((0, 0), (1, 0)), ((1, 0), (1, 2)))
+        self.assertEqual(check_plan(book, (request,), short), 1)
+        self.assertIs(is_safe(book, (request,), ((0, 0), (1, 0), (1, 2))), False)
+        self.assertEqual(least_plan(book, (request,), (0, 0), (1, 2)), (((0, 0), (0, 1), (0, 2), (1, 2)),))
+        self.assertEqual(least_plan(book & Book(settings, switches=tuple(itertools.pairwise(
+            ((0, 0), (1, 0), (1, 2))))), (request,), (0, 0), (1, 2)), short)
+
+    def test_the_switches_of_all_windows_count(self):
+        # Of two standings at which one can wait, the nearer one is not the one that was found last.
+        settings = (("a", 2), ("b", 1))
+        book = Book(settings, switches=(
+            ((0, 0), (1, 0)), ((0, 1), (1, 1)), ((1, 0), (0, 1)), ((1, 0), (2, 0)), ((1, 1), (1, 0)), ((1, 1), (2, 1)),
+            ((2, 0), (0, 0)), ((2, 0), (1, 0)), ((2, 0), (1, 1)), ((2, 1), (0, 0)), ((2, 1), (0, 1))))
+        request = Request(settings, (("ask", "b", (1, 2)), ("do", "u", 3), ("do", "v", 3), ("ask", "b", (4, 5)),
+                                     ("do", "w", 6), ("do", "x", 6), ("ask", "a", (7, 8, 7)), ("do", "y", 9),
+                                     ("do", "z", 9), ("end",)), ("met", "met"))
+        self.assertEqual(oracle.least_costs(book, (request,), (2, 1), (2, 0), 4), (1, 3))
+        self.found((1, 3), book, (request,), (2, 1), (2, 0))
+        self.assertEqual(check_plan(book, (request,), (((2, 1), (0, 1), (1, 1), (1, 0)), ((1, 0), (2, 0)))), 1)
+
     def test_a_longer_window_without_a_wait(self):
         self.found((0, 2), Book(PAIR, switches=(((0, 0), (0, 1)), ((0, 0), (1, 0)), ((0, 0), (1, 1)),
                                                 ((0, 1), (1, 1)), ((1, 0), (1, 1)))), (BUY,), (0, 0), (1, 1))

@@ -369,6 +369,11 @@ class CrossedTest(Checks):
         self.assertEqual(crossed(book.starting((1, 1)), request), ())
         self.assertEqual(crossed(Book(PAIR), request), ())
 
+    def test_behind_an_end_nothing_is_reached(self):
+        request = Request(SWITCH, (("ask", "a", (1, 3)), ("end",), ("do", "y", 1), ("do", "x", 2)))
+        self.assertEqual(crossed(BOOK.starting((0,)), request), (2, 3))
+        self.assertEqual(crossed(BOOK.starting((1,)), request), ())
+
     def test_what_is_kept_is_not_crossed(self):
         request = Request(PAIR, PLACES, ("begin", "live"))
         book = Book(PAIR, starts=((0, 0),))

@@ -82,6 +82,48 @@ class InterfaceTest(Checks):
         self.assertEqual((requests.MODES, requests.MOST_PLACES, tables.MOST_NODES), (("live", "met", "begin"), 16, 600))
 
 
+class ByNameTest(Checks):
+
+    def test_functions_by_the_names_of_the_document_in_another_order(self):
+        run = ((0, 0), (GO, GO, to(1, 0), to(1, 1), GO, GO, GO))
+        values = {"book": PRICE_FIRST, "request": BUY, "run": run, "node": start_nodes(PRICE_FIRST, BUY)[0],
+                  "paper": ("torn", run), "row": ("low", "new"), "place": 5, "requests": (BUY,), "one": BUY,
+                  "window": ((0, 0), (1, 0)), "plan": (((0, 0), (1, 0)), ((1, 0), (1, 1))), "first": (0, 0),
+                  "last": (1, 1), "other": BUY.keeping(tax="begin"), "settings": PAIR, "function": len,
+                  "live": Live(PRICE_FIRST, (0, 0))}
+        called = 0
+        for module, names in FUNCTIONS.items():
+            for name, parameters in names.items():
+                function = vars(module)[name]
+                words = parameters.split(", ")
+                values["text"] = request_text(BUY) if name == "read_request" else book_text(BOOK)
+                values["thing"] = {"need_settings": PAIR, "is_standing": (0, 1), "need_node": values["node"]}.get(name)
+                told = [function(*[values[word] for word in words]),
+                        function(**{word: values[word] for word in reversed(words)})]
+                if name == "standings":
+                    told = [list(generator) for generator in told]
+                self.assertTrue(told[0] == told[1], name)
+                called += 1
+        self.assertEqual(called, 32)
+
+    def test_classes_and_methods_by_the_names_of_the_document_in_another_order(self):
+        book = Book(switches=PRICE_FIRST.switches, starts=((0, 0),), settings=PAIR)
+        request = Request(modes=("live", "met"), places=PLACES, settings=PAIR)
+        self.assertTrue(book == PRICE_FIRST and request == BUY.keeping(tax="met"))
+        self.assertEqual(book.after(standing=(0, 0)), ((1, 0),))
+        self.assertTrue(request.with_modes(modes=("live", "live")) == BUY)
+        self.assertEqual(request.plain(standing=(0, 1)), ("low", "new"))
+        same = Live(standing=(0, 0), book=book)
+        self.assertEqual([same.begin(request=BUY), same.go(number=0), same.live(number=0)], [0, None, "low"])
+        self.assertIsNone(same.switch(standing=(1, 0)))
+
+    def test_what_stands_behind_a_star(self):
+        for function in (lambda: Book(PAIR, ()), lambda: Book(PAIR, (), ()), lambda: BUY.keeping("met"),
+                         lambda: BOOK.starting(starts=())):
+            with self.assertRaises(TypeError):
+                function()
+
+
 class ExamplesTest(Checks):
 
     def test_the_price_first(self):
