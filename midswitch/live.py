@@ -99,7 +99,7 @@ class Live:
         self.state.left.append(self.state.now)
         self.state.now = standing
 
-    def live(self, number):
+    def __call__(self, number):
         """Goes on until the next deed or the end of a request, and returns what the last go returns."""
         need_under_way(self.state, number)
         request, place, kept, row, before = self.state.tracks[number]

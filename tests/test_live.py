@@ -32,10 +32,10 @@ def part_of_the_way():
     """A live with one request that was torn, one under way, and one that has just begun."""
     live = Live(BOOK, (0, 0))
     for number in (live.begin(BUY), live.begin(BUY.keeping(tax="met"))):
-        live.live(number)
+        live(number)
     live.switch((1, 0))
     live.switch((1, 1))
-    live.live(0)
+    live(0)
     live.go(0)
     live.begin(PAY)
     return live
@@ -52,7 +52,7 @@ class LiveTest(Checks):
     def test_a_standing_that_is_no_start(self):
         live = Live(Book(PAIR, starts=()), (0, 1))
         self.assertEqual(live.begin(BUY), 0)
-        self.assertEqual(live.live(0), "low")
+        self.assertEqual(live(0), "low")
 
     def test_things_that_are_no_standing(self):
         for thing in any_kind() + [(0, 2), (True, 0), [0, 0], (0,), (0, 0, 0), (-1, 0)]:
@@ -69,7 +69,7 @@ class LiveTest(Checks):
 
     def test_methods_stand_in_the_class(self):
         for name in ("__init__", "__len__", "__eq__", "book", "standing", "going", "ended", "begin", "go", "switch",
-                     "live", "trial"):
+                     "__call__", "trial"):
             self.assertIn(name, vars(Live))
         self.assertEqual((Live.__module__, tried.__module__), (module.__name__, module.__name__))
 
@@ -121,7 +121,7 @@ class GoTest(Checks):
         self.assertEqual([live.go(number) for number in (0, 1, 2, 0, 2, 1)],
                          [None, "pay", None, "low", "low", ("pay",)])
         live.switch((0, 1))
-        self.assertEqual([live.live(number) for number in (2, 0, 2, 0)], ["new", "new", ("low", "new"), ("low", "new")])
+        self.assertEqual([live(number) for number in (2, 0, 2, 0)], ["new", "new", ("low", "new"), ("low", "new")])
         self.assertEqual(live.ended, [(1, ("pay",), False), (2, ("low", "new"), False), (0, ("low", "new"), False)])
 
     def test_values_that_are_no_number_of_one_under_way(self):
@@ -130,7 +130,7 @@ class GoTest(Checks):
         before = part_of_the_way()
         for thing in any_kind() + [0, 3, -1, "1", (1,), [1], BUY, live]:
             if thing not in (1, 2) or isinstance(thing, bool):
-                for function in (live.go, live.live):
+                for function in (live.go, live):
                     with self.assertRaises(BadNumber) as caught:
                         function(thing)
                     self.assertIs(caught.exception.value, thing)
@@ -142,7 +142,7 @@ class GoTest(Checks):
         live.begin(BUY)
         for thing in (True, False):
             self.refused(BadNumber, "value", thing, live.go, thing)
-            self.refused(BadNumber, "value", thing, live.live, thing)
+            self.refused(BadNumber, "value", thing, live, thing)
         self.assertIsNone(live.go(1))
 
     def test_modes_while_settings_are_switched(self):
@@ -150,9 +150,9 @@ class GoTest(Checks):
             live = Live(ONE, (0,))
             live.begin(Request(SWITCH, TWICE, (mode,)))
             live.switch((1,))
-            first = live.live(0)
+            first = live(0)
             live.switch((0,))
-            second = live.live(0)
+            second = live(0)
             self.assertEqual((first, second), deeds)
             self.assertEqual(live.go(0), deeds)
             # It lived through both standings, so it is torn only if neither of them has this row.
@@ -163,17 +163,17 @@ class GoTest(Checks):
         live.begin(Request(SWITCH, TWICE, ("met",)))
         self.assertIsNone(live.go(0))
         live.switch((1,))
-        self.assertEqual([live.live(0) for step in range(3)], ["x", "u", ("x", "u")])
+        self.assertEqual([live(0) for step in range(3)], ["x", "u", ("x", "u")])
 
     def test_whether_it_was_torn(self):
         for ways, torn in ((((1, 0), (1, 1)), True), (((0, 1), (1, 1)), False), ((), False), (((1, 0),), False)):
             live = Live(BOOK, (0, 0))
             live.begin(BUY)
-            live.live(0)
+            live(0)
             for standing in ways:
                 live.switch(standing)
-            live.live(0)
-            self.assertEqual(live.live(0), live.ended[0][1])
+            live(0)
+            self.assertEqual(live(0), live.ended[0][1])
             self.assertEqual([told for number, row, told in live.ended], [torn])
             self.assertIs(live.ended[0][2], torn)
 
@@ -181,17 +181,17 @@ class GoTest(Checks):
         live = Live(BOOK, (0, 1))
         live.switch((0, 0))
         live.begin(BUY)
-        live.live(0)
+        live(0)
         live.switch((1, 0))
         live.switch((1, 1))
-        live.live(0)
-        live.live(0)
+        live(0)
+        live(0)
         self.assertEqual(live.ended, [(0, ("low", "new"), True)])
 
     def test_what_is_switched_at_its_end_is_lived_through(self):
         live = part_of_the_way()
         self.assertEqual(live.ended, [(0, ("low", "new"), True)])
-        live.live(1)
+        live(1)
         live.switch((0, 1))
         live.go(1)
         self.assertEqual(live.ended[1:], [(1, ("low", "new"), False)])
@@ -200,9 +200,9 @@ class GoTest(Checks):
         live = Live(ONE, (0,))
         live.begin(Request(SWITCH, (("ask", "a", (0, 1)), ("do", "x", 2), ("ask", "a", (3, 0)), ("end",))))
         live.switch((1,))
-        live.live(0)
+        live(0)
         live.switch((0,))
-        self.assertEqual(live.live(0), ("x",))
+        self.assertEqual(live(0), ("x",))
         self.assertEqual(live.ended, [(0, ("x",), True)])
 
 
@@ -236,30 +236,30 @@ class LiveOnTest(Checks):
     def test_until_the_next_deed_or_the_end(self):
         live = Live(BOOK, (1, 0))
         live.begin(BUY)
-        self.assertEqual([live.live(0) for step in range(3)], ["high", "old", ("high", "old")])
+        self.assertEqual([live(0) for step in range(3)], ["high", "old", ("high", "old")])
         self.assertEqual(live.ended, [(0, ("high", "old"), False)])
-        self.refused(BadNumber, "value", 0, live.live, 0)
+        self.refused(BadNumber, "value", 0, live, 0)
 
     def test_asks_ahead_of_a_deed_and_of_an_end(self):
         fifteen = [("ask", "a", (at + 1, at + 1)) for at in range(15)]
         for last, told in ((("end",), ()), (("do", "x", 15), "x")):
             live = Live(ONE, (0,))
             live.begin(Request(SWITCH, (*fifteen, last)))
-            self.assertEqual(live.live(0), told)
+            self.assertEqual(live(0), told)
 
     def test_a_hundred_asks(self):
         live = Live(ONE, (0,))
         live.begin(CIRCLE)
         same = Live(ONE, (0,))
         same.begin(CIRCLE)
-        self.refused(TooMany, "most", 100, live.live, 0)
+        self.refused(TooMany, "most", 100, live, 0)
         self.assertTrue(live == same)
         self.assertIsNone(live.go(0))
-        self.refused(TooMany, "most", 100, live.live, 0)
+        self.refused(TooMany, "most", 100, live, 0)
         same.go(0)
         self.assertTrue(live == same)
         live.switch((1,))
-        self.assertEqual([live.live(0), live.live(0)], ["x", ("x",)])
+        self.assertEqual([live(0), live(0)], ["x", ("x",)])
 
     def test_a_hundred_asks_have_no_other_effect(self):
         for mode in MODES:
@@ -267,33 +267,33 @@ class LiveOnTest(Checks):
             live, same = Live(ONE, (0,)), Live(ONE, (0,))
             for each in (live, same):
                 each.begin(request)
-            self.refused(TooMany, "most", 100, live.live, 0)
+            self.refused(TooMany, "most", 100, live, 0)
             self.assertTrue(live == same)
             # What it would have met was not read.
             live.switch((1,))
             if mode == "begin":
-                self.refused(TooMany, "most", 100, live.live, 0)
+                self.refused(TooMany, "most", 100, live, 0)
             else:
-                self.assertEqual(live.live(0), "x")
+                self.assertEqual(live(0), "x")
 
     def test_asks_that_go_on_for_ever(self):
         live = Live(ONE, (1,))
         live.begin(Request(SWITCH, (("do", "x", 1), ("ask", "a", (1, 1)))))
-        self.assertEqual(live.live(0), "x")
-        self.refused(TooMany, "most", 100, live.live, 0)
+        self.assertEqual(live(0), "x")
+        self.refused(TooMany, "most", 100, live, 0)
         self.assertEqual([live.go(0) for step in range(150)], [None] * 150)
-        self.refused(TooMany, "most", 100, live.live, 0)
+        self.refused(TooMany, "most", 100, live, 0)
         self.assertEqual(live.going, (0,))
 
     def test_deeds_that_go_on_for_ever(self):
         live = Live(ONE, (1,))
         live.begin(Request(SWITCH, (("do", "x", 1), ("ask", "a", (1, 0)))))
-        self.assertEqual([live.live(0) for step in range(300)], ["x"] * 300)
+        self.assertEqual([live(0) for step in range(300)], ["x"] * 300)
 
     def test_the_error_that_is_listed_first(self):
         live = Live(ONE, (0,))
         live.begin(CIRCLE)
-        self.refused(BadNumber, "value", 1, live.live, 1)
+        self.refused(BadNumber, "value", 1, live, 1)
 
 
 class EqualTest(Checks):
@@ -410,8 +410,8 @@ class EqualTest(Checks):
         one, other = Live(BOOK, (0, 0)), Live(BOOK, (0, 0))
         for live, name in ((one, "pay"), (other, "send")):
             live.begin(Request.straight(PAIR, name))
-            live.live(0)
-            live.live(0)
+            live(0)
+            live(0)
         self.equal(False, one, other)
 
     def test_whether_those_that_have_ended_were_torn(self):
@@ -419,11 +419,11 @@ class EqualTest(Checks):
         for way in (((1, 0), (1, 1)), ((0, 1), (1, 1))):
             live = Live(BOOK, (0, 0))
             live.begin(BUY)
-            live.live(0)
+            live(0)
             for standing in way:
                 live.switch(standing)
-            live.live(0)
-            live.live(0)
+            live(0)
+            live(0)
             lives.append(live)
         self.assertEqual([live.ended for live in lives], [[(0, ("low", "new"), True)], [(0, ("low", "new"), False)]])
         self.equal(False, *lives)
@@ -432,8 +432,8 @@ class EqualTest(Checks):
         one, other = Live(BOOK, (0, 0)), Live(BOOK, (0, 0))
         for live, request in ((one, PAY), (other, Request(PAIR, (("ask", "tax", (1, 1)), ("do", "pay", 2), ("end",))))):
             live.begin(request)
-            live.live(0)
-            live.live(0)
+            live(0)
+            live(0)
         self.equal(True, one, other)
 
     def test_values_of_other_kinds(self):
@@ -460,12 +460,12 @@ class TrialTest(Checks):
         """Does all that a live can do."""
         number = live.begin(BUY)
         live.switch((0, 1))
-        live.live(number)
-        live.live(number)
-        live.live(number)
+        live(number)
+        live(number)
+        live(number)
         live.switch((1, 1))
         for going in live.going:
-            live.live(going)
+            live(going)
         live.begin(PAY)
 
     def test_the_live_itself(self):
@@ -561,7 +561,7 @@ class TrialTest(Checks):
         same.switch((0, 1))
         with trial:
             live.switch((1, 1))
-            live.live(0)
+            live(0)
         self.assertTrue(live == same)
         live.trial()
         self.assertTrue(live == same)
@@ -596,7 +596,7 @@ class TriedTest(Checks):
 
         def function(same):
             same.switch((0, 1))
-            return same.live(1), same.live(1), same.ended
+            return same(1), same(1), same.ended
         self.assertEqual(tried(live, function), ("new", ("low", "new"), [
             (0, ("low", "new"), True), (1, ("low", "new"), False)]))
         self.assertTrue(live == part_of_the_way())
@@ -628,7 +628,7 @@ class ConventionsTest(Checks):
     def test_names_of_parameters(self):
         live = Live(standing=(0, 0), book=BOOK)
         self.assertEqual(live.begin(request=BUY), 0)
-        self.assertEqual(live.live(number=0), "low")
+        self.assertEqual(live(number=0), "low")
         self.assertIsNone(live.switch(standing=(0, 1)))
         self.assertIsNone(live.go(number=0))
         self.assertEqual(tried(function=len, live=live), 1)

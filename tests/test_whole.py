@@ -45,7 +45,7 @@ CLASSES = {
                        "__add__": None, "keeping": "self, **modes", "with_modes": "self, modes",
                        "straight": "settings, *names", "plain": "self, standing"},
     live.Live: {"__init__": "self, book, standing", "__len__": "self", "__eq__": None, "begin": "self, request",
-                "go": "self, number", "switch": "self, standing", "live": "self, number", "trial": "self"},
+                "go": "self, number", "switch": "self, standing", "__call__": "self, number", "trial": "self"},
 }
 BOOK = Book(PAIR)
 PRICE_FIRST = Book(PAIR, starts=((0, 0),), switches=(((0, 0), (1, 0)), ((1, 0), (1, 1))))
@@ -114,7 +114,7 @@ class ByNameTest(Checks):
         self.assertTrue(request.with_modes(modes=("live", "live")) == BUY)
         self.assertEqual(request.plain(standing=(0, 1)), ("low", "new"))
         same = Live(standing=(0, 0), book=book)
-        self.assertEqual([same.begin(request=BUY), same.go(number=0), same.live(number=0)], [0, None, "low"])
+        self.assertEqual([same.begin(request=BUY), same.go(number=0), same(number=0)], [0, None, "low"])
         self.assertIsNone(same.switch(standing=(1, 0)))
 
     def test_what_stands_behind_a_star(self):
