@@ -12,7 +12,7 @@ def can_do(book, request, row):
     if not is_row(row):
         return False
     spots = Spots(book, request)
-    here = spots.behind_starts()
+    here = spots.first
     # A long row comes to the same sets again and again.
     known = {}
     for name in row:
@@ -27,43 +27,52 @@ def first_unlike(book, one, other):
 
     Of two rows the shorter one is the first, and of two of one length the lesser one.
     """
-    for row, mine, theirs in ends_by_row(book, one, other):
-        if mine != theirs:
-            return (0 if mine else 1, row)
+    mine, theirs = Spots(book, one), Spots(book, other)
+    ways = ways_to_pairs(mine, theirs)
+    for pair in ways:
+        can, they_can = pair[0] & mine.ends != 0, pair[1] & theirs.ends != 0
+        if can != they_can:
+            return (0 if can else 1, row_to(ways, pair))
     return None
 
 
 def is_within(book, one, other):
     """Whether the other one can do each row that the one can do."""
-    return all([theirs or not mine for row, mine, theirs in ends_by_row(book, one, other)])
-
-
-def ends_by_row(book, one, other):
-    """A list of triples: a row, and whether the one and the other can end with it.
-
-    There is a row for each pair of sets of situations to which the two come: the first one of those that lead to the
-    pair; and the rows stand in their order.
-    """
     mine, theirs = Spots(book, one), Spots(book, other)
-    rows = rows_to_pairs(mine, theirs)
-    return [(rows[pair], pair[0] & mine.ends != 0, pair[1] & theirs.ends != 0) for pair in rows]
+    for pair in ways_to_pairs(mine, theirs):
+        if pair[0] & mine.ends != 0 and pair[1] & theirs.ends == 0:
+            return False
+    return True
 
 
-def rows_to_pairs(mine, theirs):
-    """A dict with the first row that leads to each pair of sets, in the order of the rows."""
-    names = sorted(set(list(mine.deeds_by_name) + list(theirs.deeds_by_name)))
-    rows = {(mine.behind_starts(), theirs.behind_starts()): ()}
-    level = list(rows)
+def ways_to_pairs(mine, theirs):
+    """How the first row comes to each pair of sets: a dict, in the order of these rows.
+
+    It has the pair ahead of the last deed and the name of this deed, None for the empty row. TooMany if there are more
+    than 600 pairs.
+    """
+    first = (mine.first, theirs.first)
+    ways = {first: None}
+    level = [first]
     while level:
         following = []
         for pair in level:
-            for name in names:
-                after = (mine.behind_deed(pair[0], name), theirs.behind_deed(pair[1], name))
-                # Where both sets are empty, neither of the two has a run with this row.
-                if after != (0, 0) and after not in rows:
-                    rows[after] = (*rows[pair], name)
+            my_ways, their_ways = mine.behind_deeds(pair[0]), theirs.behind_deeds(pair[1])
+            for name in sorted({**my_ways, **their_ways}):
+                after = (my_ways.get(name, 0), their_ways.get(name, 0))
+                if after not in ways:
+                    ways[after] = (pair, name)
                     following.append(after)
-            if len(rows) > MOST_PAIRS:
+            if len(ways) > MOST_PAIRS:
                 raise TooMany(MOST_PAIRS)
         level = following
-    return rows
+    return ways
+
+
+def row_to(ways, pair):
+    """The first row that comes to this pair."""
+    names = []
+    while ways[pair] is not None:
+        pair, name = ways[pair]
+        names.append(name)
+    return tuple(names[::-1])

@@ -1,6 +1,7 @@
 """Books: settings, the starts of requests, and the switches that are allowed."""
 
 from midswitch.errors import BadSettings, BadStarts, BadSwitches
+from midswitch.groups import groups_of
 from midswitch.settings import grid_of, is_standing, need_settings, need_standing
 
 
@@ -13,9 +14,10 @@ class Book:
         if starts is None:
             starts = self.grid
         if switches is None:
-            switches = near_pairs(self.grid)
+            switches = near_pairs(settings, self.grid)
         self.starts = need_starts(settings, starts)
         self.switches = need_switches(settings, switches)
+        self.groups = groups_of(self.grid, self.switches)
 
     def __len__(self):
         return len(self.grid)
@@ -49,14 +51,21 @@ class Book:
         return Book(self.settings, starts=tuple(sorted(starts)), switches=self.switches)
 
 
-def near_pairs(grid):
+def near_pairs(settings, grid):
     """All pairs of standings that differ in one setting alone, by 1, ascending."""
-    return tuple([(first, second) for first in grid for second in grid if distance(first, second) == 1])
+    return tuple([(first, second) for first in grid for second in near_to(settings, first)])
 
 
-def distance(first, second):
-    """By how much two standings differ, over all settings."""
-    return sum([abs(one - other) for one, other in zip(first, second)])
+def near_to(settings, standing):
+    """A list of the standings that differ from this one in one setting alone, by 1, ascending."""
+    below = [moved(standing, at, -1) for at, value in enumerate(standing) if value > 0]
+    above = [moved(standing, at, 1) for at, (name, most) in enumerate(settings) if standing[at] < most]
+    return below + above[::-1]
+
+
+def moved(standing, at, way):
+    """The standing with this setting raised by so much."""
+    return standing[:at] + (standing[at] + way,) + standing[at + 1:]
 
 
 def need_starts(settings, starts):

@@ -15,9 +15,10 @@ def is_int(thing):
 
 def is_name(thing):
     """Whether any value is a name."""
-    if not isinstance(thing, str) or not 1 <= len(thing) <= LONGEST_NAME:
+    if not isinstance(thing, str) or len(thing) > LONGEST_NAME:
         return False
-    return all(["a" <= letter <= "z" for letter in thing])
+    # There are small letters beyond z, too, but not in ASCII.
+    return thing.isascii() and thing.isalpha() and thing.islower()
 
 
 def is_setting(thing):

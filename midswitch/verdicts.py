@@ -1,11 +1,10 @@
 """Certificates, point [21], and shortest runs to a row or to a place."""
 
-from midswitch.charts import Chart, code_of, first_code, goer, nodes_of, way_to, ways_to_codes
+from midswitch.charts import Chart, code_of, first_code, first_spot, goer, nodes_of, way_to, ways_to_codes
 from midswitch.errors import BadNumber, BadPaper
 from midswitch.requests import is_number
 from midswitch.runs import is_torn
 from midswitch.settings import is_name
-from midswitch.spots import Spots
 from midswitch.steps import GO
 from midswitch.tables import MOST_NODES, codes_behind, is_torn_code, wrong_part
 
@@ -34,11 +33,11 @@ def run_to(book, request, row):
     """A whole right run with this row, with the fewest moves, or None."""
     if not is_row(row):
         raise BadNumber(row)
+    chart = Chart(book, request)
     # Asked for its error alone: whether there are too many nodes does not hang on the row.
-    ways_to_codes(Chart(book, request), request.modes, MOST_NODES)
-    spots = Spots(book, request)
-    way = way_with_row(spots, row)
-    return None if way is None else ended(run_by(spots.chart, [spots.codes[number] for number in way]))
+    ways_to_codes(chart, request.modes, MOST_NODES)
+    codes = codes_with_row(chart, request.modes, row)
+    return None if codes is None else ended(run_by(chart, codes))
 
 
 def run_to_place(book, request, place):
@@ -67,19 +66,29 @@ def ended(run):
     return (start, moves + (GO,))
 
 
-def way_with_row(spots, row):
-    """The numbers of the situations on a shortest way to an end with this row, or None."""
-    many = len(spots.codes)
-    # A mark is a situation and how many deeds of the row are done, in one integer.
-    level = list(range(spots.first_many))
+def codes_with_row(chart, modes, row):
+    """The codes of the spots on a shortest way to an end with this row, or None."""
+    gone = goer(chart, modes)
+    # A mark is how many deeds of the row are done, and behind it the code of a spot, in one integer.
+    done_at = chart.place_at + len(chart.steps).bit_length()
+    below_done = (1 << done_at) - 1
+    level = [first_spot(chart, modes, start) for start in chart.starts]
     ways = {mark: None for mark in level}
+    # On a long row one comes to the same spots again and again.
+    moves = {}
     while level:
         following = []
         for mark in level:
-            done, number = divmod(mark, many)
-            if done == len(row) and spots.ends >> number & 1:
-                return [other % many for other in way_to(ways, mark)]
-            for after in marks_behind(spots, row, done, number):
+            done, code = mark >> done_at, mark & below_done
+            if code not in moves:
+                moves[code] = moves_from(chart, gone, code)
+            word, name, behind, silent = moves[code]
+            if word == "end" and done == len(row):
+                return [other & below_done for other in way_to(ways, mark)]
+            afters = [mark - code + other for other in silent]
+            if word == "do" and done < len(row) and row[done] == name:
+                afters.append((done + 1 << done_at) + behind)
+            for after in afters:
                 if after not in ways:
                     ways[after] = mark
                     following.append(after)
@@ -87,14 +96,12 @@ def way_with_row(spots, row):
     return None
 
 
-def marks_behind(spots, row, done, number):
-    """A list of the marks behind all moves that keep to the row."""
-    many = len(spots.codes)
-    marks = [done * many + other for other in spots.silent[number]]
-    deed = spots.deeds[number]
-    if deed is not None and done < len(row) and row[done] == deed[0]:
-        marks.append((done + 1) * many + deed[1])
-    return marks
+def moves_from(chart, gone, code):
+    """What stands at a spot: the word, the name of a deed, the code behind its go, and all those behind no deed."""
+    word, name, nexts, field = chart.steps[code >> chart.place_at]
+    behind = gone(code)
+    silent = [code + way for way, bit in chart.turns[chart.standing_of(code)]]
+    return word, name, behind, [*silent, behind] if word == "ask" else silent
 
 
 def is_row(thing):

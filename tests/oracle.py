@@ -6,6 +6,8 @@ from midswitch.books import Book
 from midswitch.requests import MODES, Request
 from midswitch.settings import standings
 
+WIDE = ((("a", 3),), (("a", 2), ("b", 1)), (("b", 2), ("a", 3)), (("c", 1), ("b", 2), ("a", 1)))
+
 
 def names(request):
     return [name for name, most in request.settings]
@@ -170,6 +172,17 @@ def random_cases(many, seed):
     for case in range(many):
         settings = rng.choice(((("a", 1),), (("a", 2),), (("a", 1), ("b", 1))))
         yield random_book(rng, settings), random_request(rng, settings, rng.randint(3, 9))
+
+
+def wide_cases(many, seed):
+    """Books of up to 12 standings, with a few switches, and requests of up to 16 places."""
+    rng = random.Random(seed)
+    for case in range(many):
+        settings = rng.choice(WIDE)
+        book = random_book(rng, settings)
+        few = tuple([switch for switch in book.switches if rng.random() < 0.2])
+        yield (Book(settings, starts=book.starts[:3], switches=few),
+               random_request(rng, settings, rng.randint(3, 16)))
 
 
 def is_torn_in(book, request, window):

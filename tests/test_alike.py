@@ -6,11 +6,12 @@ import unittest
 
 import oracle
 from midswitch import alike
-from midswitch.alike import can_do, first_unlike, is_within
+from midswitch.alike import can_do, first_unlike, is_within, ways_to_pairs
 from midswitch.books import Book
 from midswitch.errors import TooMany
 from midswitch.requests import MODES, Request
 from midswitch.runs import is_whole, row_of
+from midswitch.spots import Spots
 from midswitch.verdicts import run_to
 from samples import PAIR, PLACES, SWITCH, TWICE, Checks, any_kind, many_nodes, without_tuples
 
@@ -170,6 +171,12 @@ class FirstUnlikeTest(Checks):
         for key in ((None, True), ((0, 1), False), ((1, 1), True), ((1, 1), False), ((0, 2), False), ((1, 2), True)):
             self.assertGreater(told.get(key, 0), 0, told)
 
+    def test_books_of_many_standings(self):
+        rng = random.Random(109)
+        for book, request in oracle.wide_cases(40, 110):
+            other = request.with_modes(tuple([rng.choice(MODES) for name in book.settings]))
+            self.unlike(oracle.first_unlike(oracle.row_pairs(book, request, other)), book, request, other)
+
     def test_requests_that_ask_twice(self):
         for rng, book, requests in oracle.asking_cases(150, 104):
             one, other = requests[0], requests[0].with_modes((rng.choice(MODES), rng.choice(MODES)))
@@ -235,6 +242,33 @@ class TooManyTest(Checks):
             self.refused(TooMany, "most", 600, is_within, book, first, second)
         self.assertIsNone(first_unlike(book, one, one))
         self.assertIsNone(first_unlike(book.starting(), one, other))
+
+    def test_all_pairs_are_counted(self):
+        rng = random.Random(107)
+        groups = set()
+        for book, request in oracle.random_cases(250, 108):
+            other = oracle.random_request(rng, book.settings, rng.randint(2, 7))
+            pairs = oracle.row_pairs(book, request, other)
+            if book.starts:
+                self.assertEqual(len(ways_to_pairs(Spots(book, request), Spots(book, other))), len(pairs))
+            groups.add((len(book), len(book.groups[1])))
+        self.assertGreater(len(groups), 5)
+
+    def test_loops_of_many_lengths(self):
+        settings = (("a", 3),)
+        book = Book(settings, switches=())
+
+        def loops_of(nexts, behind):
+            return Request(settings, (("ask", "a", nexts), *[("do", "w", place) for place in behind]))
+        one = loops_of((1, 4, 8, 1), (2, 3, 1, 5, 6, 7, 4, 9, 10, 11, 12, 13, 14, 8))
+        other = loops_of((1, 3, 8, 1), (2, 1, 4, 5, 6, 7, 3, 9, 10, 11, 12, 13, 14, 15, 8))
+        for first, second in ((one, other), (other, one)):
+            self.refused(TooMany, "most", 600, first_unlike, book, first, second)
+            self.refused(TooMany, "most", 600, is_within, book, first, second)
+            self.assertIs(can_do(book, first, ("w",) * 1000), False)
+        # Loops of 3, 4 and 7 deeds: as many pairs as steps until all of them begin anew at once, and the first one.
+        self.assertIsNone(first_unlike(book, one, one))
+        self.assertEqual(len(oracle.row_pairs(book, one, one)), 85)
 
     def test_rows_of_neither_are_not_counted(self):
         book, one = loops()

@@ -1,6 +1,5 @@
 """midswitch/charts.py: nodes as integers, held against nodes as points [18] and [19] tell them."""
 
-import random
 import unittest
 
 import oracle
@@ -11,25 +10,12 @@ from midswitch.requests import Request
 from midswitch.tables import need_node
 from samples import PAIR, PLACES, Checks, many_nodes, one_node_too_many, six_hundred_nodes
 
-WIDE = ((("a", 3),), (("a", 2), ("b", 1)), (("b", 2), ("a", 3)), (("c", 1), ("b", 2), ("a", 1)))
-
-
-def wide_cases(many, seed):
-    """Books of up to 12 standings, with a few switches, and requests of up to 16 places."""
-    rng = random.Random(seed)
-    for case in range(many):
-        settings = rng.choice(WIDE)
-        book = oracle.random_book(rng, settings)
-        few = tuple([switch for switch in book.switches if rng.random() < 0.2])
-        yield (Book(settings, starts=book.starts[:3], switches=few),
-               oracle.random_request(rng, settings, rng.randint(3, 16)))
-
 
 class CodesTest(Checks):
 
     def test_every_node_of_a_table_is_written_and_read_back(self):
         some = 0
-        for book, request in list(wide_cases(150, 81)) + list(oracle.random_cases(100, 82)):
+        for book, request in list(oracle.wide_cases(150, 81)) + list(oracle.random_cases(100, 82)):
             nodes = oracle.nodes(oracle.all_states(book, request))
             chart = Chart(book, request)
             codes = [code_of(chart, node) for node in nodes]
@@ -63,7 +49,7 @@ class CodesTest(Checks):
         self.assertEqual(nodes_of(chart, [first_spot(chart, request.modes, (1, 0))]), (node[:3] + (0, ()),))
 
     def test_a_spot_goes_on_as_the_node_does(self):
-        for book, request in wide_cases(60, 83):
+        for book, request in oracle.wide_cases(60, 83):
             chart = Chart(book, request)
             gone = goer(chart, request.modes)
             for state, many in oracle.all_states(book, request):

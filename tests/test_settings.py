@@ -41,7 +41,8 @@ class NeedSettingsTest(unittest.TestCase):
         self.refused((deep_tuple(49),), 0)
 
     def test_wrong_names(self):
-        for name in any_kind() + ["abcdefghi", "a" * 20000, "aB", "a1", "a b", "a\n", "\n", "a-b", "`", "{"]:
+        for name in any_kind() + ["abcdefghi", "a" * 20000, "aB", "a1", "a b", "a\n", "\n", "a-b", "`", "{",
+                                    "\u00e4", "a\u00df", "\u00aa", "\uff41", "\u0430b"]:
             if name != "end":
                 self.refused(((name, 1),), 0)
 
